@@ -1,0 +1,1 @@
+"""Shadowpages: machines with tables of pages, kept within one machine."""
