@@ -2,3 +2,15 @@
 
 # Point 5: 2 ** 48, how many words there are. Written out, since a file's top holds plain values alone.
 WORDS = 281474976710656
+
+# Point 6: how many numbers of pages, 2 ** 40, and how many marks a row can have.
+PAGES = 1099511627776
+MARKS = 256
+
+# Point 7: how many a place's part can be, and how many places there are.
+PARTS = 8
+PLACES = 512
+
+# Point 8: how many words a page has, and how many pages a memory has at most.
+CELLS = 8
+MOST_PAGES = 24

@@ -9,8 +9,12 @@ def is_whole(thing):
     return isinstance(thing, int) and not isinstance(thing, bool)
 
 
+def is_below(thing, bound):
+    return is_whole(thing) and 0 <= thing < bound
+
+
 def is_word(thing):
-    return is_whole(thing) and 0 <= thing < WORDS
+    return is_below(thing, WORDS)
 
 
 def word_of(number):

@@ -2,12 +2,25 @@
 
 import unittest
 
-from shadowpages.bounds import WORDS
+from shadowpages.bounds import CELLS, MARKS, MOST_PAGES, PAGES, PARTS, PLACES, WORDS
 
 
 class Bounds(unittest.TestCase):
     def test_words(self):
         self.assertEqual(WORDS, 2 ** 48)
+
+    def test_rows(self):
+        self.assertEqual(PAGES, 2 ** 40)
+        self.assertEqual(MARKS, 2 ** 8)
+        self.assertEqual(PAGES * MARKS, WORDS)
+
+    def test_places(self):
+        self.assertEqual(PARTS, 8)
+        self.assertEqual(PLACES, 8 * 8 * 8)
+
+    def test_pages(self):
+        self.assertEqual(CELLS, 8)
+        self.assertEqual(MOST_PAGES, 24)
 
 
 if __name__ == "__main__":

@@ -102,6 +102,26 @@ class Form(unittest.TestCase):
             if isinstance(node, ast.arg):
                 self.assertFalse(node.arg.startswith("_") or hasattr(builtins, node.arg), spot)
 
+    def test_no_name_is_a_method_and_a_value(self):
+        methods, values = set(), set()
+        for node, spot in each_node():
+            if isinstance(node, ast.ClassDef):
+                methods.update(part.name for part in node.body if isinstance(part, ast.FunctionDef))
+            if isinstance(node, ast.Attribute) and isinstance(node.ctx, ast.Store):
+                values.add(node.attr)
+        self.assertEqual(methods & values, set())
+
+    def test_no_local_is_called_like_a_class_or_an_import(self):
+        for path in package_files():
+            nodes = list(ast.walk(ast.parse(path.read_text(encoding="utf-8"))))
+            taken = {node.name for node in nodes if isinstance(node, ast.ClassDef)}
+            for node in nodes:
+                if isinstance(node, ast.ImportFrom):
+                    taken.update(alias.asname or alias.name for alias in node.names)
+            bound = {node.arg for node in nodes if isinstance(node, ast.arg)}
+            bound.update(node.id for node in nodes if isinstance(node, ast.Name) and isinstance(node.ctx, ast.Store))
+            self.assertEqual(taken & bound, set(), path.name)
+
     def test_is_stands_beside_none_and_truths_alone(self):
         for node, spot in each_node():
             if isinstance(node, ast.Compare) and isinstance(node.ops[0], (ast.Is, ast.IsNot)):

@@ -3,15 +3,13 @@
 import unittest
 
 from shadowpages.errors import NoWord
-from shadowpages.words import both, is_whole, is_word, odd, plus, word_of
+from shadowpages.words import both, is_below, is_whole, is_word, odd, plus, word_of
+from things import NO_WHOLES
 
 TOP = 2 ** 48
 LONG = 123456789012345678901234567890123456789012345678901234567890
 WORDS = (0, 1, 2, 77, 255, 256, TOP // 2, TOP - 2, TOP - 1)
 NO_WORDS = (-1, -77, -TOP, -TOP - 1, TOP, TOP + 1, 2 * TOP, LONG, -LONG)
-NO_WHOLES = (
-    True, False, None, "", "7", "word", [], [7], (), (7,), {}, {7: 7}, 7.0, 0.5, b"7", {7}, object(), int,
-)
 
 
 class Wholes(unittest.TestCase):
@@ -41,6 +39,22 @@ class Words(unittest.TestCase):
         for thing in NO_WHOLES:
             with self.subTest(repr(thing)):
                 self.assertIs(is_word(thing), False)
+
+
+class Below(unittest.TestCase):
+    def test_whole_numbers(self):
+        for bound in (1, 2, 8, 512, TOP):
+            for number, answer in ((-1, False), (0, True), (bound - 1, True), (bound, False), (bound + 1, False)):
+                with self.subTest((number, bound)):
+                    self.assertIs(is_below(number, bound), answer)
+
+    def test_nothing_is_below_0(self):
+        self.assertIs(is_below(0, 0), False)
+
+    def test_other_things(self):
+        for thing in NO_WHOLES:
+            with self.subTest(repr(thing)):
+                self.assertIs(is_below(thing, 8), False)
 
 
 class WordOf(unittest.TestCase):
