@@ -14,3 +14,12 @@ PLACES = 512
 # Point 8: how many words a page has, and how many pages a memory has at most.
 CELLS = 8
 MOST_PAGES = 24
+
+# Point 12: how many rows a shelf keeps at most.
+SEATS = 12
+
+# Point 15: how many registers there are, how many rows a program has at most, and how many numbers of rows, that
+# behind the last one among them, a row or an entry can name.
+REGISTERS = 4
+ORDERS = 60
+ENTRIES = 61

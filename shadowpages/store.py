@@ -17,6 +17,11 @@ def check_image(pages):
             raise NoImage("a page is neither a list of eight words nor None")
 
 
+def check_word(word):
+    if not is_word(word):
+        raise NoWord("what is to be written is no word")
+
+
 class Store:
     # By itself a store without pages. One under it tells its own size and pages by size and has, and where their
     # words lie by word_at and put_word; the refusals of read and write are the same for all.
@@ -39,8 +44,7 @@ class Store:
 
     def write(self, page, cell, word):
         self.check_spot(page, cell)
-        if not is_word(word):
-            raise NoWord("what is to be written is no word")
+        check_word(word)
         self.put_word(page, cell, word)
 
     def check_spot(self, page, cell):

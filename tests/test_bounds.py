@@ -3,6 +3,7 @@
 import unittest
 
 from shadowpages.bounds import CELLS, MARKS, MOST_PAGES, PAGES, PARTS, PLACES, WORDS
+from shadowpages.bounds import ENTRIES, ORDERS, REGISTERS, SEATS
 
 
 class Bounds(unittest.TestCase):
@@ -21,6 +22,14 @@ class Bounds(unittest.TestCase):
     def test_pages(self):
         self.assertEqual(CELLS, 8)
         self.assertEqual(MOST_PAGES, 24)
+
+    def test_shelves(self):
+        self.assertEqual(SEATS, 12)
+
+    def test_programs(self):
+        self.assertEqual(REGISTERS, 4)
+        self.assertEqual(ORDERS, 60)
+        self.assertEqual(ENTRIES, ORDERS + 1)
 
 
 if __name__ == "__main__":

@@ -4,18 +4,11 @@ import unittest
 
 from shadowpages.errors import HouseError, NoImage, NoPage, NoPlace, NoWord
 from shadowpages.store import Memory, Store
-from things import LONG, NO_WHOLES, Prickly
+from things import LONG, NO_CELLS, NO_WHOLES, NO_WORDS, TOP, Prickly, no_numbers
 
-TOP = 2 ** 48
 NOUGHTS = [0] * 8
 COUNTED = [11, 12, 13, 14, 15, 16, 17, 18]
 HIGH = [TOP - 1] * 8
-NO_WORDS = NO_WHOLES + (-1, -TOP, TOP, TOP + 1, LONG, -LONG)
-NO_CELLS = NO_WHOLES + (-1, -8, 8, 9, TOP, LONG, -LONG)
-
-
-def no_numbers(size):
-    return NO_WHOLES + (-1, -size, size, size + 1, 24, 2 ** 40, TOP, LONG, -LONG)
 
 
 def no_eights():

@@ -16,3 +16,12 @@ NO_WHOLES = (
 )
 
 LONG = 10 ** 4000 - 1
+TOP = 2 ** 48
+
+NO_WORDS = NO_WHOLES + (-1, -TOP, TOP, TOP + 1, LONG, -LONG)
+NO_CELLS = NO_WHOLES + (-1, -8, 8, 9, TOP, LONG, -LONG)
+
+
+def no_numbers(size):
+    """What is no number of a page in a store of this size."""
+    return NO_WHOLES + (-1, -size, size, size + 1, 24, 2 ** 40, TOP, LONG, -LONG)
