@@ -23,3 +23,9 @@ SEATS = 12
 REGISTERS = 4
 ORDERS = 60
 ENTRIES = 61
+
+# Point 17: how many counts of steps a turn can be told, from 0 to 500.
+STEPS = 501
+
+# Point 19: how many frames there are at most.
+FRAMES = 200

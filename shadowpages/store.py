@@ -47,6 +47,9 @@ class Store:
         check_word(word)
         self.put_word(page, cell, word)
 
+    def words_of(self, page):
+        return [self.word_at(page, cell) for cell in range(CELLS)]
+
     def check_spot(self, page, cell):
         self.check_page(page)
         if not is_below(cell, CELLS):

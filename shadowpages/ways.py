@@ -98,9 +98,6 @@ class Ways(Store):
     def pages(self):
         return [self.words_of(page) if self.has(page) else None for page in range(self.size())]
 
-    def words_of(self, page):
-        return [self.word_at(page, cell) for cell in range(CELLS)]
-
 
 class Plain(Ways):
     def __init__(self, pages, most, words):

@@ -3,7 +3,7 @@
 import unittest
 
 from shadowpages.bounds import CELLS, MARKS, MOST_PAGES, PAGES, PARTS, PLACES, WORDS
-from shadowpages.bounds import ENTRIES, ORDERS, REGISTERS, SEATS
+from shadowpages.bounds import ENTRIES, FRAMES, ORDERS, REGISTERS, SEATS, STEPS
 
 
 class Bounds(unittest.TestCase):
@@ -30,6 +30,12 @@ class Bounds(unittest.TestCase):
         self.assertEqual(REGISTERS, 4)
         self.assertEqual(ORDERS, 60)
         self.assertEqual(ENTRIES, ORDERS + 1)
+
+    def test_turns(self):
+        self.assertEqual(STEPS, 500 + 1)
+
+    def test_frames(self):
+        self.assertEqual(FRAMES, 200)
 
 
 if __name__ == "__main__":
